@@ -9,6 +9,7 @@ import (
 	"testing"
 
 	"cracknel/api"
+	"cracknel/sample"
 )
 
 var (
@@ -113,30 +114,6 @@ func checkMatch(t *testing.T, host, domain string) {
 	if got && Match(domain, host) && host != domain {
 		t.Errorf("P11.3: %q and %q match one another", host, domain)
 	}
-}
-
-// texts are all of up to so many of the pieces, one behind the other.
-func texts(most int, pieces ...string) []string {
-	all := []string{""}
-	for from := 0; most > 0; most-- {
-		end := len(all)
-		for _, s := range all[from:end] {
-			for _, piece := range pieces {
-				all = append(all, s+piece)
-			}
-		}
-		from = end
-	}
-	return all
-}
-
-// some is a text of any kind of the pieces.
-func some(r *rand.Rand, most int, pieces ...string) string {
-	s := ""
-	for range r.Intn(most + 1) {
-		s += pieces[r.Intn(len(pieces))]
-	}
-	return s
 }
 
 // bad are texts that are neither hosts nor addresses.
@@ -410,7 +387,7 @@ func TestParentsLong(t *testing.T) {
 
 // TestFollows takes all short texts by threes: what the first one matches through the second one.
 func TestFollows(t *testing.T) {
-	rows := append(texts(5, "a", "."), "1.2.3.4", "x.1.2.3.4", "2.3.4", "3.4", "4", "A.a", "a.A", "1.2.3.4.a", "a-.a", "-", "-.a")
+	rows := append(sample.Texts(5, "a", "."), "1.2.3.4", "x.1.2.3.4", "2.3.4", "3.4", "4", "A.a", "a.A", "1.2.3.4.a", "a-.a", "-", "-.a")
 	for _, first := range rows {
 		checkParents(t, first)
 		for _, second := range rows {
@@ -455,12 +432,12 @@ func TestFollowsHosts(t *testing.T) {
 }
 
 func TestShort(t *testing.T) {
-	for _, s := range texts(6, "a", "B", "-", ".", "7") {
+	for _, s := range sample.Texts(6, "a", "B", "-", ".", "7") {
 		checkCanon(t, s)
 		checkIp(t, s)
 		checkParents(t, s)
 	}
-	for _, s := range texts(7, "0", "1", "25", ".") {
+	for _, s := range sample.Texts(7, "0", "1", "25", ".") {
 		checkCanon(t, s)
 		checkIp(t, s)
 		checkParents(t, s)
@@ -473,13 +450,13 @@ func TestAny(t *testing.T) {
 	for range 300 {
 		var rows []string
 		for range 12 {
-			rows = append(rows, some(r, 9, "a", "bc", "X", "-", ".", ".", "9", "_", "\x80"), some(r, 9, "1", "2", "25", "0", ".", "."), some(r, 5, "1.", "255.", "0.", "3", "256", "a."), some(r, 12, strings.Repeat("a", 20), "b", ".", "-"))
+			rows = append(rows, sample.Some(r.Intn, 9, "a", "bc", "X", "-", ".", ".", "9", "_", "\x80"), sample.Some(r.Intn, 9, "1", "2", "25", "0", ".", "."), sample.Some(r.Intn, 5, "1.", "255.", "0.", "3", "256", "a."), sample.Some(r.Intn, 12, strings.Repeat("a", 20), "b", ".", "-"))
 		}
 		for _, s := range rows {
 			checkCanon(t, s)
 			checkIp(t, s)
 			checkParents(t, s)
-			rows = append(rows, some(r, 3, "a", ".", "1")+"."+s, s[r.Intn(len(s)+1):])
+			rows = append(rows, sample.Some(r.Intn, 3, "a", ".", "1")+"."+s, s[r.Intn(len(s)+1):])
 		}
 		for _, host := range rows {
 			for _, domain := range rows {
